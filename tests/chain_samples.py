@@ -1,0 +1,122 @@
+"""Values for several tests. What is right is written out here by hand, not asked of the program."""
+
+from itertools import product
+
+# Each kind with one step of it.
+KINDS = {
+    "line": ("line", -3, 9),
+    "turn": ("turn", 3, 2, -2, -9),
+    "keep": ("keep", 2, 1),
+    "every": ("every", 3, 0),
+    "twice": ("twice",),
+    "sums": ("sums",),
+    "anew": ("anew", 2, 0),
+    "gaps": ("gaps",),
+    "groups": ("groups", 3),
+    "count": ("count",),
+}
+
+PAIRS = ((2, 0), (2, 1), (3, 0), (3, 1), (3, 2))
+
+
+def all_steps():
+    """Every step of point 2.2."""
+    lines = list(product(range(-3, 4), range(-9, 10)))
+    steps = [("line", a, b) for a, b in lines]
+    steps += [("turn", m, r, a, b) for m, r in PAIRS for a, b in lines]
+    for name in ("keep", "every", "anew"):
+        steps += [(name, m, r) for m, r in PAIRS]
+    return steps + [("twice",), ("sums",), ("gaps",), ("groups", 2), ("groups", 3), ("count",)]
+
+
+def count_of(names, words):
+    return sum([name in words for name in names])
+
+
+def allowed(names):
+    """Whether point 2.3 allows a chain of steps of these kinds."""
+    return (
+        len(names) <= 4
+        and count_of(names, ("sums", "anew", "gaps", "groups", "count")) <= 2
+        and count_of(names, ("turn", "keep", "anew")) <= 2
+        and count_of(names, ("twice",)) <= 1
+    )
+
+
+def name_rows(many):
+    """Every sequence of this many kinds."""
+    return list(product(KINDS, repeat=many))
+
+
+def kind_chains():
+    """A chain for each sequence of kinds that point 2.3 allows, with the numbers varied."""
+    by_name = {name: [step for step in all_steps() if step[0] == name] for name in KINDS}
+    chains = []
+    for many in range(5):
+        for names in name_rows(many):
+            if allowed(names):
+                at = len(chains)
+                chains.append(tuple(
+                    by_name[name][(at * 7 + place * 11) % len(by_name[name])]
+                    for place, name in enumerate(names)
+                ))
+    return chains
+
+
+# Chains but for the limits of point 2.3, almost all of which pass only one of them, by one step.
+BEYOND_LIMITS = (
+    (("sums",), ("sums",), ("sums",)),
+    (("gaps",), ("count",), ("groups", 2)),
+    (("sums",), ("gaps",), ("line", 1, 0), ("count",)),
+    (("anew", 2, 0), ("sums",), ("count",)),
+    (("anew", 3, 0), ("gaps",), ("anew", 2, 1)),
+    (("keep", 2, 0), ("keep", 2, 0), ("keep", 2, 0)),
+    (("turn", 2, 0, 1, 1), ("keep", 3, 0), ("turn", 3, 1, 0, 0)),
+    (("anew", 2, 0), ("keep", 2, 0), ("turn", 2, 0, 1, 1)),
+    (("anew", 2, 0), ("anew", 2, 0), ("line", 1, 1), ("keep", 3, 2)),
+    (("twice",), ("twice",)),
+    (("twice",), ("sums",), ("every", 2, 0), ("twice",)),
+    (("line", 1, 1),) * 5,
+    (("every", 2, 0),) * 5,
+    (("every", 2, 0), ("line", 1, 1), ("sums",), ("keep", 2, 0), ("twice",)),
+    (("line", 1, 1),) * 3000,
+)
+
+# Each limit of point 2.3 kept exactly.
+AT_LIMITS = (
+    (("line", 1, 1),) * 4,
+    (("every", 3, 2),) * 4,
+    (("sums",), ("sums",)),
+    (("gaps",), ("line", 0, 0), ("groups", 3), ("every", 2, 1)),
+    (("count",), ("anew", 3, 2)),
+    (("anew", 2, 0), ("anew", 2, 1)),
+    (("anew", 2, 0), ("anew", 2, 1), ("twice",), ("line", 2, 2)),
+    (("keep", 2, 0), ("turn", 2, 0, 3, 3)),
+    (("turn", 2, 0, 3, 3), ("turn", 2, 1, 3, 3)),
+    (("keep", 3, 0), ("anew", 3, 1), ("sums",), ("twice",)),
+    (("sums",), ("gaps",), ("keep", 2, 0), ("turn", 3, 0, 1, 0)),
+    (("twice",),),
+)
+
+# In place of a number from 0 to 3.
+NO_NUMBERS = (True, False, "0", "1", "2", "", None, 0.0, 1.0, 2.0, float("nan"), float("inf"),
+              (), (2,), [2], {}, {2: 2}, 1 + 0j, b"2")
+
+
+def nested(inner, depth):
+    """Tuples, lists and dicts of the value, this deep, of each kind and of all three in turn."""
+    values = [inner] * 4
+    for at in range(depth):
+        wraps = (lambda x: (x,), lambda x: [x], lambda x: {"sums": x})
+        values = [wrap(x) for wrap, x in zip(wraps + (wraps[at % 3],), values)]
+    return values
+
+
+def wrong_anywhere():
+    """Values that are no chain, no step, no number and no text of a chain."""
+    values = [True, False, None, 0.0, 1.5, float("nan"), float("inf"), -1.0]
+    values += [[], {}, [()], ((),), {"sums": 1}, [("sums",)], (["sums"],), ({"sums": 0},)]
+    for inner in (True, None, 2.5, "sums", ("sums",), 3, ""):
+        for depth in (2, 3, 29, 30):
+            values += nested(inner, depth)
+    return [value for value in values if value != (("sums",),)]

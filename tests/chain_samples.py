@@ -1,6 +1,7 @@
 """Values for several tests. What is right is written out here by hand, not asked of the program."""
 
 from itertools import product
+from random import Random
 
 # Each kind with one step of it.
 KINDS = {
@@ -120,3 +121,59 @@ def wrong_anywhere():
         for depth in (2, 3, 29, 30):
             values += nested(inner, depth)
     return [value for value in values if value != (("sums",),)]
+
+
+def without_repeats(values):
+    """The values, each where it stands first."""
+    return list({value: True for value in values})
+
+
+def drawn_chains(seed, many, most_steps=4):
+    """Chains of 1 to 4 steps, of kinds and numbers that are drawn, the same ones each time."""
+    draw = Random(seed)
+    by_name = {name: [step for step in all_steps() if step[0] == name] for name in KINDS}
+    chains = []
+    while len(chains) < many:
+        names = [draw.choice(list(KINDS)) for _ in range(draw.randint(1, most_steps))]
+        if allowed(names):
+            chains.append(tuple(draw.choice(by_name[name]) for name in names))
+    return without_repeats(chains)
+
+
+# The chains with the greatest forms: two steps with totals ahead of two that look at remainders.
+GREAT = (
+    (("sums",), ("sums",), ("turn", 3, 1, 2, 5), ("turn", 2, 1, -1, 3)),
+    (("groups", 3), ("gaps",), ("keep", 3, 1), ("keep", 2, 1)),
+    (("groups", 3), ("groups", 3), ("turn", 2, 1, -1, 3), ("turn", 3, 1, 2, 5)),
+    (("sums",), ("groups", 3), ("keep", 2, 0), ("turn", 3, 2, 3, -9)),
+    (("groups", 2), ("sums",), ("turn", 3, 0, -3, 1), ("keep", 2, 1)),
+    (("sums",), ("anew", 3, 1), ("keep", 2, 1), ("twice",)),
+    (("anew", 2, 1), ("anew", 3, 2), ("twice",), ("line", -2, 9)),
+    (("count",), ("sums",), ("turn", 3, 2, 2, 2), ("keep", 2, 0)),
+    (("every", 3, 2), ("groups", 3), ("every", 2, 1), ("gaps",)),
+    (("every", 3, 2),) * 4,
+)
+
+# In place of a row.
+WRONG_ROWS = (
+    (0,) * 61, (10 ** 30,) * 61, tuple(range(3000)), (10 ** 30 + 1,), (-10 ** 30 - 1,),
+    (1, 2, 10 ** 30 + 1), (-10 ** 30 - 1, 0), (10 ** 5000,), (True,), (False,), (1, 2, True),
+    (0,) * 59 + (False,), (1.0,), (0.0,), (1, 2.5), (float("nan"),), (float("inf"),), ("1",),
+    ("",), (None,), (1, None), ((),), ((1,),), ([],), ([1],), ({},), (1, (2, 3)), [], [1], [1, 2],
+    {}, {1: 2}, {0: 0, 1: 1}, "", "1", "12", b"", b"1", None, True, False, 0, 1, -1, 10 ** 30,
+    1.5, range(3), {1, 2}, iter((1, 2)),
+)
+
+
+def wrong_rows():
+    """Values that are no rows within the limits."""
+    return list(WRONG_ROWS) + wrong_anywhere() + [(0, value) for value in wrong_anywhere()]
+
+
+def wrong_chains():
+    """Values that are no chains."""
+    wrong = wrong_anywhere() + list(BEYOND_LIMITS)
+    wrong += [[], "", "sums", 0, 10 ** 5000, b"sums", [("sums",)], ("sums",), ((("sums",),),),
+              (["sums"],), (("line", 4, 0),), (("line", True, 0),), (("line", 1.0, 0),),
+              (("line", 10 ** 5000, 0),), (("keep", 2, 2),), (("every", 2),), (("none",),)]
+    return wrong

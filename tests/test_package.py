@@ -7,9 +7,38 @@ import sys
 import unittest
 
 import foldchains
-from foldchains import chains, texts
+from foldchains import chains, feeds, likeness, running, tables, texts
 
 FOLDER = pathlib.Path(foldchains.__file__).parent
+
+FUNCTIONS = (
+    (chains, "is_chain", ["value"]),
+    (texts, "format_chain", ["chain"]),
+    (texts, "parse_chain", ["text"]),
+    (running, "run", ["chain", "row"]),
+    (tables, "form", ["chain"]),
+    (likeness, "same", ["chain", "other"]),
+    (likeness, "parting", ["chain", "other"]),
+    (likeness, "mix", ["chain", "row"]),
+    (likeness, "sizes", ["chain"]),
+    (likeness, "gives_nothing", ["chain"]),
+    (likeness, "gives_as_many", ["chain"]),
+    (likeness, "needless", ["chain"]),
+    (likeness, "thinned", ["chain"]),
+    (likeness, "exchangeable", ["chain"]),
+    (likeness, "joined", ["chain", "other"]),
+)
+
+METHODS = (
+    ("__init__", ["self", "chain"]),
+    ("put", ["self", "number"]),
+    ("undo", ["self"]),
+    ("redo", ["self"]),
+    ("row", ["self"]),
+    ("given", ["self"]),
+    ("__len__", ["self"]),
+    ("__eq__", ["self", "other"]),
+)
 
 
 class PackageTest(unittest.TestCase):
@@ -24,17 +53,22 @@ class PackageTest(unittest.TestCase):
                               capture_output=True, text=True, check=True)
         self.assertEqual(done.stdout.strip(), "[]")
 
-    def test_each_name_is_defined_in_its_file(self):
-        for module, name, parameter in (
-            (chains, "is_chain", "value"),
-            (texts, "format_chain", "chain"),
-            (texts, "parse_chain", "text"),
-        ):
+    def test_each_function_is_defined_in_its_file(self):
+        for module, name, parameters in FUNCTIONS:
             with self.subTest(name):
                 function = getattr(module, name)
                 self.assertTrue(inspect.isfunction(function))
                 self.assertEqual(function.__module__, module.__name__)
-                self.assertEqual(list(inspect.signature(function).parameters), [parameter])
+                self.assertEqual(list(inspect.signature(function).parameters), parameters)
+
+    def test_the_class_is_defined_in_its_file_with_its_methods(self):
+        self.assertTrue(inspect.isclass(feeds.Feed))
+        self.assertEqual(feeds.Feed.__module__, "foldchains.feeds")
+        for name, parameters in METHODS:
+            with self.subTest(name):
+                method = vars(feeds.Feed)[name]
+                self.assertTrue(inspect.isfunction(method))
+                self.assertEqual(list(inspect.signature(method).parameters), parameters)
 
     def test_no_tests_inside_the_package(self):
         self.assertEqual(list(FOLDER.rglob("test*")), [])
